@@ -1,0 +1,1 @@
+"""Noisebound: the published lattice key exchange and small siblings, with told noise."""

@@ -1,0 +1,53 @@
+"""The argument checks that all modules share."""
+
+from noisebound.errors import BadItem, BadLength, OutOfRange
+
+
+def is_number(value):
+    """Tell if value is an integer; True and False are none."""
+    return isinstance(value, int) and not isinstance(value, bool)
+
+
+def is_between(value, low, high):
+    """Tell if value is an integer from low to high."""
+    return is_number(value) and low <= value <= high
+
+
+def check_number(name, value):
+    """Refuse everything but an integer of any sign."""
+    if not is_number(value):
+        raise OutOfRange(name)
+
+
+def check_between(name, value, low, high):
+    """Refuse everything but an integer from low to high."""
+    if not is_between(value, low, high):
+        raise OutOfRange(name)
+
+
+def check_choice(name, value, choices):
+    """Refuse everything but one of these integers."""
+    # 8.0 and True are equal to integers, so the kind is looked at first.
+    if not is_number(value) or value not in choices:
+        raise OutOfRange(name)
+
+
+def check_length(items, expected):
+    """Refuse another number of items than expected."""
+    if len(items) != expected:
+        raise BadLength(expected, len(items))
+
+
+def check_whole_groups(items, size):
+    """Refuse a number of items that is not a multiple of size."""
+    found = len(items)
+    groups = (found + size - 1) // size
+    if groups * size != found:
+        raise BadLength(groups * size, found)
+
+
+def check_items(items, low, high):
+    """Refuse the first item that is not an integer from low to high."""
+    for index, item in enumerate(items):
+        if not is_between(item, low, high):
+            raise BadItem(index)

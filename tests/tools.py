@@ -1,0 +1,177 @@
+"""What the tests share: wrong values, and checks that hold for every function."""
+
+import copy
+import itertools
+import unittest
+
+from noisebound import errors
+
+ATTRIBUTES = {
+    "OutOfRange": ("name",),
+    "BadItem": ("index",),
+    "BadLength": ("expected", "found"),
+    "BadText": ("index",),
+    "BadPadding": (),
+    "WrongPhase": (),
+    "NotInvertible": ("value",),
+    "BadRing": ("demand",),
+    "BadParameters": ("demand",),
+    "UnknownName": ("name",),
+    "DifferentRings": (),
+    "BadKey": ("fault", "place"),
+    "BadLetter": ("fault", "place"),
+    "BadKeyText": ("line", "fault"),
+    "BadRecord": ("fault",),
+    "BadCommand": ("fault", "place", "line"),
+    "NoEntry": ("name",),
+    "NothingLeft": ("deed",),
+}
+
+# Integers of 900 digits are the greatest for which anything is promised.
+HUGE = 10 ** 900 - 1
+
+OTHER_KINDS = (True, False, None, "1", "", [1], [], (1,), (), {}, {1: 1}, 8.0, 0.0, 1.5, b"\x01")
+
+
+def wrong_integers(low, high):
+    """Values that are not integers from low to high."""
+    return [*OTHER_KINDS, low - 1, high + 1, low - 1000, high + 1000, HUGE, -HUGE]
+
+
+def out_of_range(name, low, high):
+    """Pairs (wrong value, refusal) for an integer from low to high."""
+    return [(value, ("OutOfRange", name)) for value in wrong_integers(low, high)]
+
+
+def no_integer(name):
+    """Pairs (wrong value, refusal) for an integer of any sign."""
+    return [(value, ("OutOfRange", name)) for value in OTHER_KINDS]
+
+
+def no_choice(name, choices):
+    """Pairs (wrong value, refusal) for one of some integers."""
+    near = [value + step for value in choices for step in (-1, 1)]
+    others = [value for value in (*near, 0, -8, HUGE, -HUGE) if value not in choices]
+    floats = [float(value) for value in choices]
+    return [(value, ("OutOfRange", name)) for value in (*OTHER_KINDS, *others, *floats, [choices[0]])]
+
+
+def bad_items(low, high, good=None):
+    """Pairs (wrong list, refusal) for a list of integers from low to high.
+
+    With good, a list of the right length, the lists have this length too.
+    """
+    pairs = []
+    for value in wrong_integers(low, high):
+        if good is None:
+            pairs.append(([value], ("BadItem", 0)))
+            pairs.append(([low, high, value, low, None], ("BadItem", 2)))
+        else:
+            for place in (0, 1, len(good) - 1):
+                changed = list(good)
+                changed[place] = value
+                pairs.append((changed, ("BadItem", place)))
+    return pairs
+
+
+def bad_list(low, high, good):
+    """Pairs (wrong list, refusal) for a list of exactly as many integers as good has."""
+    count = len(good)
+    wrong = [[], good[:-1], [*good, low], good * 2, [None] * (count + 1), [high + 1] * (count - 1)]
+    lengths = [(data, ("BadLength", count, len(data))) for data in wrong]
+    return lengths + bad_items(low, high, good)
+
+
+BAD_BYTES = bad_items(0, 255)
+
+
+def refusal(function, *args, **keywords):
+    """Call and return the class and attributes of the error, or ("answer", ..)."""
+    try:
+        answer = function(*args, **keywords)
+    except errors.NoiseboundError as error:
+        name = error.__class__.__name__
+        assert error.__class__ is getattr(errors, name), name
+        return (name, *[getattr(error, word) for word in ATTRIBUTES[name]])
+    return ("answer", answer)
+
+
+def spoil(value):
+    """Change all lists in an answer."""
+    if isinstance(value, (list, tuple)):
+        for item in value:
+            spoil(item)
+    if isinstance(value, list):
+        value.append("spoiled")
+        value[0] = "spoiled"
+
+
+class ProgramTest(unittest.TestCase):
+    """A test with checks that hold for every function."""
+
+    def same(self, found, expected):
+        """Equal, with the same kinds: True is not 1 and a list is not a tuple."""
+        self.assertEqual(repr(found), repr(expected))
+
+    def check_refusals(self, function, good, bad):
+        """Try wrong arguments alone and together.
+
+        good has the right arguments by name, in the order of the signature;
+        bad has lists of pairs (wrong value, refusal) for some of these names.
+        """
+        self.same(refusal(function, **good)[0], "answer")
+        for name, pairs in bad.items():
+            for value, expected in pairs:
+                self.check_refusal(function, {**good, name: value}, expected)
+        self.check_order(function, good, bad)
+
+    def check_order(self, function, good, bad):
+        """Of several wrong arguments the earliest one is named."""
+        names = [name for name in good if name in bad]
+        for earlier, later in itertools.combinations(names, 2):
+            for value, expected in bad[earlier]:
+                for other, _ in (bad[later][0], bad[later][-1]):
+                    wrong = {**good, earlier: value, later: other}
+                    self.check_refusal(function, wrong, expected)
+            for other, _ in bad[later]:
+                value, expected = bad[earlier][-1]
+                self.check_refusal(function, {**good, earlier: value, later: other}, expected)
+        for start in range(len(names)):
+            wrong = {**good, **{name: bad[name][-1][0] for name in names[start:]}}
+            self.check_refusal(function, wrong, bad[names[start]][-1][1])
+
+    def check_refusal(self, function, arguments, expected):
+        """One call is refused and leaves its arguments as they were."""
+        before = repr(arguments)
+        backward = dict(reversed(list(arguments.items())))
+        self.same(refusal(function, **arguments), expected)
+        self.same(refusal(function, **backward), expected)
+        self.assertEqual(repr(arguments), before)
+
+    def check_calls(self, function, good, expected, keyword_only=0):
+        """All ways of passing the same arguments give the same new answer."""
+        before = repr(good)
+        names = list(good)
+        placed = len(names) - keyword_only
+        for count in range(placed + 1):
+            args = [good[name] for name in names[:count]]
+            keywords = {name: good[name] for name in reversed(names[count:])}
+            self.same(function(*args, **keywords), expected)
+        if keyword_only:
+            with self.assertRaises(TypeError):
+                function(*good.values())
+        self.check_new(function, good, expected)
+        self.assertEqual(repr(good), before)
+
+    def check_new(self, function, good, expected):
+        """Changing an answer or an argument later has no effect."""
+        passed = copy.deepcopy(good)
+        answer = function(**passed)
+        spoil(answer)
+        self.same(passed, good)
+        answer = function(**passed)
+        self.same(answer, expected)
+        spoil(list(passed.values()))
+        self.same(answer, expected)
+        self.same(function(**copy.deepcopy(good)), expected)
+
