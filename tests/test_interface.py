@@ -1,0 +1,127 @@
+"""The names, parameters and places of the interface, as the document writes them."""
+
+import importlib
+import inspect
+import unittest
+
+FUNCTIONS = {
+    "octets": {
+        "check_bytes": "(data, *, length=None)",
+        "concatenate": "(*pieces)",
+        "split_at": "(data, *, sizes)",
+        "xor_bytes": "(first, second)",
+        "differing_places": "(first, second)",
+        "change_byte": "(data, index, value)",
+        "little_bytes": "(count, value)",
+        "little_integer": "(data)",
+        "bits_of": "(data)",
+        "bytes_of": "(bits)",
+    },
+    "hexadecimal": {
+        "to_hex": "(data, *, group=0)",
+        "hex_fault": "(text, *, group=0)",
+        "is_hex": "(text, *, group=0)",
+        "from_hex": "(text, *, group=0)",
+    },
+    "permutation": {
+        "rotate": "(lane, count)",
+        "state_from_bytes": "(data)",
+        "bytes_from_state": "(state)",
+        "rotation_offset": "(x, y)",
+        "constant_bit": "(step)",
+        "round_constant": "(index)",
+        "column_parities": "(state)",
+        "theta": "(state)",
+        "rho": "(state)",
+        "pi": "(state)",
+        "chi": "(state)",
+        "inverse_theta": "(state)",
+        "inverse_rho": "(state)",
+        "inverse_pi": "(state)",
+        "inverse_chi": "(state)",
+        "iota": "(state, index)",
+        "do_round": "(state, index)",
+        "undo_round": "(state, index)",
+        "permute": "(state, *, first=0, last=24)",
+        "permute_back": "(state, *, first=0, last=24)",
+    },
+    "sponge": {
+        "pad": "(data, *, rate, suffix)",
+        "unpad": "(padded, *, rate, suffix)",
+        "sponge_bytes": "(data, count, *, rate, suffix)",
+    },
+    "hashes": {
+        "hash_32": "(data)",
+        "hash_64": "(data)",
+        "stretch_128": "(data, count)",
+        "stretch_256": "(data, count)",
+    },
+    "modular": {
+        "residue": "(value, q)",
+        "centred": "(value, q)",
+        "distance": "(first, second, q)",
+        "power": "(base, exponent, q)",
+        "inverse": "(value, q)",
+        "order_of": "(value, q)",
+        "least_divisor": "(value)",
+        "is_prime": "(value)",
+        "primes_for": "(n)",
+        "roots_of": "(n, q)",
+        "reverse_bits": "(count, value)",
+    },
+    "rings": {
+        "ring_fault": "(n, q, root)",
+        "small_rings": "(n, below)",
+        "least_ring": "(n, q)",
+    },
+}
+
+CLASSES = {
+    "sponge": {
+        "Sponge": {
+            "__init__": "(self, *, rate, suffix)",
+            "absorb": "(self, data)",
+            "squeeze": "(self, count)",
+            "fork": "(self)",
+        },
+    },
+    "hashes": {
+        "Stretcher": {
+            "__init__": "(self, seed, *, strength=128)",
+            "read": "(self, count)",
+        },
+    },
+    "rings": {
+        "Ring": {
+            "__init__": "(self, n, q, root)",
+            "__eq__": "(self, other)",
+        },
+    },
+}
+
+
+class InterfaceTest(unittest.TestCase):
+
+    def test_functions(self):
+        for file, functions in FUNCTIONS.items():
+            module = importlib.import_module("noisebound." + file)
+            for name, signature in functions.items():
+                function = getattr(module, name)
+                self.assertTrue(inspect.isfunction(function), name)
+                self.assertEqual(function.__module__, module.__name__)
+                self.assertEqual(str(inspect.signature(function)), signature, name)
+
+    def test_classes(self):
+        for file, classes in CLASSES.items():
+            module = importlib.import_module("noisebound." + file)
+            for name, methods in classes.items():
+                self.check_class(module, getattr(module, name), methods)
+
+    def check_class(self, module, defined, methods):
+        self.assertEqual(defined.__module__, module.__name__)
+        for name, signature in methods.items():
+            self.assertEqual(str(inspect.signature(vars(defined)[name])), signature, name)
+
+
+if __name__ == "__main__":
+    unittest.main()
