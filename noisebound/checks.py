@@ -51,3 +51,28 @@ def check_items(items, low, high):
     for index, item in enumerate(items):
         if not is_between(item, low, high):
             raise BadItem(index)
+
+
+def check_integers(items):
+    """Refuse the first item that is not an integer."""
+    for index, item in enumerate(items):
+        if not is_number(item):
+            raise BadItem(index)
+
+
+def check_row(items, count, low, high):
+    """Refuse what is not exactly count integers from low to high."""
+    check_length(items, count)
+    check_items(items, low, high)
+
+
+def check_polynomial(ring, poly):
+    """Refuse what is not a polynomial of the ring; a spectrum has the same shape."""
+    check_row(poly, ring.n, 0, ring.q - 1)
+
+
+def check_vector(name, ring, vector):
+    """Refuse what is not 1 to 4 polynomials of the ring."""
+    check_between(name, len(vector), 1, 4)
+    for poly in vector:
+        check_polynomial(ring, poly)

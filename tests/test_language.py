@@ -11,11 +11,11 @@ FILES = sorted(path for path in PACKAGE.iterdir() if path.name != "__pycache__")
 USED_BUILTINS = {
     "len", "range", "enumerate", "zip", "min", "max", "sum", "abs", "sorted", "reversed", "int", "str", "bool",
     "list", "tuple", "dict", "set", "isinstance", "ord", "repr", "any", "all", "divmod", "ValueError", "property",
-    "super",
+    "super", "iter", "NotImplemented",
 }
 USED_METHODS = {
-    "append", "copy", "count", "endswith", "extend", "find", "get", "index", "insert", "isdigit", "items", "join",
-    "keys", "pop", "remove", "replace", "reverse", "split", "startswith", "strip", "values",
+    "append", "bit_length", "copy", "count", "endswith", "extend", "find", "get", "index", "insert", "isdigit", "items",
+    "join", "keys", "pop", "remove", "replace", "reverse", "split", "startswith", "strip", "values",
 }
 NO_WORDS = (
     "eval", "exec", "compile", "globals", "locals", "vars", "dir", "type", "typing", "enum", "namedtuple",

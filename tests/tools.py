@@ -2,9 +2,12 @@
 
 import copy
 import itertools
+import random
 import unittest
 
 from noisebound import errors
+from noisebound.algebra import Element
+from noisebound.rings import Ring
 
 ATTRIBUTES = {
     "OutOfRange": ("name",),
@@ -82,7 +85,70 @@ def bad_list(low, high, good):
     return lengths + bad_items(low, high, good)
 
 
+def bad_vector(name, good, members):
+    """Pairs (wrong vector, refusal) for 1 to 4 members; members has such pairs for one member."""
+    wrong, expected = members[0]
+    lengths = [[], [good[0]] * 5, [wrong] * 5, [good[0]] * 100]
+    pairs = [(data, ("OutOfRange", name)) for data in lengths]
+    for value, told in members:
+        for place in range(len(good)):
+            pairs.append(([*good[:place], value, *good[place + 1:]], told))
+    pairs.append(([wrong, members[-1][0]], expected))
+    return pairs
+
+
 BAD_BYTES = bad_items(0, 255)
+
+
+def product_by_sum(n, q, first, second):
+    """The product of two polynomials, written as the document tells it."""
+    items = []
+    for t in range(n):
+        total = sum(first[i] * second[t - i] for i in range(t + 1))
+        total -= sum(first[i] * second[t + n - i] for i in range(t + 1, n))
+        items.append(total % q)
+    return items
+
+
+def special_polynomials(n, q):
+    """Polynomials at the ends of what is allowed, and one without a pattern."""
+    chance = random.Random(n * q)
+    half = (q - 1) // 2
+    return [
+        [0] * n,
+        [1] + [0] * (n - 1),
+        [0] * (n - 1) + [q - 1],
+        [q - 1] * n,
+        [half, half + 1] * (n // 2),
+        [0, q - 1] * (n // 2),
+        [chance.randrange(q) for _ in range(n)],
+    ]
+
+
+# For each degree the least prime that has roots, with its least and its greatest root, and the greatest such prime.
+RINGS = (
+    (8, 17, 2), (8, 17, 9), (8, 17, 15), (8, 4073, 514), (16, 17, 3), (16, 17, 14), (16, 4049, 276), (32, 97, 19),
+    (32, 97, 78), (32, 4001, 186), (64, 193, 11), (64, 193, 182), (64, 3457, 297), (128, 257, 9), (128, 257, 248),
+    (128, 3457, 63), (256, 257, 3), (256, 257, 254), (256, 3329, 17), (256, 3329, 3312),
+)
+SMALL_RINGS = tuple(triple for triple in RINGS if triple[0] <= 64)
+
+
+def centred_form(value, q):
+    """The centred form, written apart from the program."""
+    rest = value % q
+    return rest if 2 * rest <= q else rest - q
+
+
+def shown(value):
+    """A text that tells the kinds of plain values, and of the program's objects what they hold."""
+    if isinstance(value, dict):
+        return repr({key: shown(item) for key, item in value.items()})
+    if isinstance(value, Ring):
+        return f"Ring{(value.n, value.q, value.root, value.half, value.quarter, value.triple)}"
+    if isinstance(value, Element):
+        return f"Element of {shown(value.ring)}: {value.coefficients()}"
+    return repr(value)
 
 
 def refusal(function, *args, **keywords):
@@ -111,7 +177,7 @@ class ProgramTest(unittest.TestCase):
 
     def same(self, found, expected):
         """Equal, with the same kinds: True is not 1 and a list is not a tuple."""
-        self.assertEqual(repr(found), repr(expected))
+        self.assertEqual(shown(found), shown(expected))
 
     def check_refusals(self, function, good, bad):
         """Try wrong arguments alone and together.
@@ -142,15 +208,15 @@ class ProgramTest(unittest.TestCase):
 
     def check_refusal(self, function, arguments, expected):
         """One call is refused and leaves its arguments as they were."""
-        before = repr(arguments)
+        before = shown(arguments)
         backward = dict(reversed(list(arguments.items())))
         self.same(refusal(function, **arguments), expected)
         self.same(refusal(function, **backward), expected)
-        self.assertEqual(repr(arguments), before)
+        self.assertEqual(shown(arguments), before)
 
     def check_calls(self, function, good, expected, keyword_only=0):
         """All ways of passing the same arguments give the same new answer."""
-        before = repr(good)
+        before = shown(good)
         names = list(good)
         placed = len(names) - keyword_only
         for count in range(placed + 1):
@@ -161,7 +227,7 @@ class ProgramTest(unittest.TestCase):
             with self.assertRaises(TypeError):
                 function(*good.values())
         self.check_new(function, good, expected)
-        self.assertEqual(repr(good), before)
+        self.assertEqual(shown(good), before)
 
     def check_new(self, function, good, expected):
         """Changing an answer or an argument later has no effect."""
