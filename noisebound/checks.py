@@ -76,3 +76,27 @@ def check_vector(name, ring, vector):
     check_between(name, len(vector), 1, 4)
     for poly in vector:
         check_polynomial(ring, poly)
+
+
+def check_centred_vector(rows, count, length, bound):
+    """Refuse what is not exactly count rows of so many integers from -bound to bound."""
+    check_length(rows, count)
+    for row in rows:
+        check_row(row, length, -bound, bound)
+
+
+def is_same(one, other):
+    """Tell if two plain values are equal, with the same kinds all through: True is not 1."""
+    if isinstance(one, (list, tuple)):
+        return is_same_row(one, other)
+    return is_number(one) == is_number(other) and one == other
+
+
+def is_same_row(row, other):
+    """Tell if a list or tuple equals another value, with the same kinds all through."""
+    if isinstance(row, list):
+        if not isinstance(other, list):
+            return False
+    elif not isinstance(other, tuple):
+        return False
+    return len(row) == len(other) and all([is_same(one, two) for one, two in zip(row, other)])

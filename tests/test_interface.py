@@ -127,6 +127,46 @@ FUNCTIONS = {
         "read_bit": "(ring, value)",
         "noise_range": "(ring, bit)",
     },
+    "packing": {
+        "pack": "(width, numbers)",
+        "unpack": "(width, data)",
+        "first_not_below": "(numbers, limit)",
+        "pack_vector": "(ring, vector)",
+        "unpack_vector": "(ring, count, data)",
+    },
+    "sampling": {
+        "pieces": "(data)",
+        "piece_limit": "(q)",
+        "uniform_from_bytes": "(ring, data)",
+        "filled_report": "(ring, data)",
+        "is_uniform_report": "(ring, data, paper)",
+        "uniform_report": "(ring, seed, column, row)",
+        "uniform_polynomial": "(ring, seed, column, row)",
+        "matrix_of": "(ring, k, seed)",
+        "binomial_from_bytes": "(n, width, data)",
+        "error_row": "(n, width, seed, counter)",
+        "error_vector": "(n, width, seed, counter, count)",
+    },
+    "parameters": {
+        "parameter_fault": "(*, n, q, root, k, secret_width, noise_width, u_width, v_width)",
+        "set_of": "(numbers)",
+        "published_names": "()",
+        "published": "(name)",
+        "name_of": "(params)",
+        "set_line": "(params)",
+        "read_set_line": "(text)",
+    },
+    "bounds": {
+        "noise_terms": "(params)",
+        "noise_bound": "(params)",
+        "room": "(params)",
+        "always_comes_back": "(params)",
+        "always_paper": "(params)",
+        "is_always_paper": "(params, paper)",
+        "always_widths": "(ring, k)",
+        "key_bound": "(params, secret, error)",
+        "key_always": "(params, secret, error)",
+    },
 }
 
 CLASSES = {
@@ -154,6 +194,12 @@ CLASSES = {
         "Element": {
             "__init__": "(self, ring, poly)",
             "coefficients": "(self)",
+        },
+    },
+    "parameters": {
+        "ParameterSet": {
+            "__init__": "(self, *, n, q, root, k, secret_width, noise_width, u_width, v_width)",
+            "__eq__": "(self, other)",
         },
     },
 }

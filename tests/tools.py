@@ -7,6 +7,7 @@ import unittest
 
 from noisebound import errors
 from noisebound.algebra import Element
+from noisebound.parameters import ParameterSet
 from noisebound.rings import Ring
 
 ATTRIBUTES = {
@@ -97,7 +98,47 @@ def bad_vector(name, good, members):
     return pairs
 
 
+def bad_rows(good, row_pairs):
+    """Pairs (wrong vector, refusal) for a number of rows that is told; row_pairs has such pairs for one row."""
+    count = len(good)
+    wrong, expected = row_pairs[0]
+    lengths = [[], good[:-1], [*good, good[0]], [wrong] * (count + 1), [good[0]] * 50]
+    pairs = [(rows, ("BadLength", count, len(rows))) for rows in lengths]
+    for row, told in row_pairs:
+        for place in range(count):
+            pairs.append(([*good[:place], row, *good[place + 1:]], told))
+    if count > 1:
+        pairs.append(([wrong, row_pairs[-1][0], *good[2:]], expected))
+    return pairs
+
+
 BAD_BYTES = bad_items(0, 255)
+
+# Values that are no right answer of any judge: those of [6], and a few that the program would not make.
+ANY_PAPERS = (
+    None, True, False, 0, 1, -1, HUGE, -HUGE, "", "paper", [], (), [[]], ((),), [()], ([],), [None], (None,), (True,),
+    ([], [], 0), ([], []), [[], [], 0], ([], [], 0, 0), (0, 0, 0, 0, 0), [0, 0, 0, 0, 0], ((((((((1,),),),),),),),),
+    [[[[[[[["deep"]]]]]]]], ("", "", ""), (None, None, None), (1, 2, 3), ["x"] * 1000, (HUGE,) * 5, (-HUGE,) * 5,
+)
+
+
+def bent_papers(paper):
+    """Copies of a paper, each changed in one place: another value, another kind, an item more or less."""
+    if isinstance(paper, (list, tuple)):
+        kind = paper.__class__
+        yield (tuple if kind is list else list)(paper)
+        yield kind([*paper, 0])
+        if paper:
+            yield kind(paper[:-1])
+            yield kind(paper[1:])
+        places = range(len(paper)) if len(paper) < 12 else (0, 1, len(paper) // 2, len(paper) - 1)
+        for place in places:
+            for item in bent_papers(paper[place]):
+                yield kind([*paper[:place], item, *paper[place + 1:]])
+        return
+    yield from (None, "", str(paper), [paper], (paper,), paper + 1, paper - 1, HUGE)
+    if paper in (0, 1):
+        yield bool(paper)
 
 
 def product_by_sum(n, q, first, second):
@@ -148,6 +189,8 @@ def shown(value):
         return f"Ring{(value.n, value.q, value.root, value.half, value.quarter, value.triple)}"
     if isinstance(value, Element):
         return f"Element of {shown(value.ring)}: {value.coefficients()}"
+    if isinstance(value, ParameterSet):
+        return f"ParameterSet{value.numbers}"
     return repr(value)
 
 
