@@ -23,7 +23,7 @@ NO_WORDS = (
 )
 NO_NODES = (
     ast.Global, ast.AsyncFunctionDef, ast.AsyncFor, ast.AsyncWith, ast.Await, ast.Yield, ast.YieldFrom, ast.Import,
-    ast.GeneratorExp, ast.Div, ast.MatMult, ast.Delete, ast.Try, ast.With, ast.Lambda, ast.Nonlocal, ast.Match,
+    ast.GeneratorExp, ast.Div, ast.MatMult, ast.Delete, ast.TryStar, ast.With, ast.Lambda, ast.Nonlocal, ast.Match,
     ast.AugAssign, ast.Set, ast.SetComp, ast.AnnAssign, ast.NamedExpr,
 )
 MODULE_NODES = (ast.FunctionDef, ast.ClassDef, ast.ImportFrom, ast.Assign, ast.Expr)
@@ -101,6 +101,16 @@ class LanguageTest(unittest.TestCase):
             for node in ast.walk(tree):
                 if isinstance(node, ast.Name) and hasattr(builtins, node.id):
                     self.assertIn(node.id, USED_BUILTINS, name)
+
+    def test_caught_errors(self):
+        defined = [node.name for node in self.trees["errors.py"].body if isinstance(node, ast.ClassDef)]
+        for name, tree in self.trees.items():
+            for node in ast.walk(tree):
+                if isinstance(node, ast.Try):
+                    self.assertEqual(node.finalbody, [], name)
+                    for handler in node.handlers:
+                        caught = handler.type.elts if isinstance(handler.type, ast.Tuple) else [handler.type]
+                        self.assertTrue(all(error.id in defined for error in caught), name)
 
     def test_methods(self):
         own = {node.name for tree in self.trees.values() for node in ast.walk(tree)
