@@ -100,3 +100,14 @@ def is_same_row(row, other):
     elif not isinstance(other, tuple):
         return False
     return len(row) == len(other) and all([is_same(one, two) for one, two in zip(row, other)])
+
+
+def first_unlike(items, others):
+    """Return the least index at which only one list has an item or the items are not the same, or None."""
+    shared = min(len(items), len(others))
+    for index in range(shared):
+        if not is_same(items[index], others[index]):
+            return index
+    if len(items) != len(others):
+        return shared
+    return None

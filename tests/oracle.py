@@ -258,3 +258,111 @@ class Oracle:
         if remade == letter:
             return (message, remade, key, "found")
         return (message, remade, stretched([*secret_key[-32:], *letter], 32), "other")
+
+
+def tag_by_rule(key, number, public_key, letter):
+    return stretched([*key, number, *public_key, *letter], 32)
+
+
+class StarterModel:
+    """The starter as [71] to [73] tell it."""
+
+    def __init__(self, oracle, key_seed, fallback_seed):
+        self.oracle = oracle
+        self.public_key, self.secret_key = oracle.make_keys(key_seed, fallback_seed)
+        self.state, self.key, self.accepted, self.finish = "new", None, None, None
+
+    def start(self):
+        if self.state == "new":
+            self.state = "waiting"
+        return [1, *self.public_key]
+
+    def take(self, data):
+        size = self.oracle.public_bytes
+        if self.state == "closed":
+            return ("late", None)
+        if data[:1] != [2] or len(data) != 1 + size + self.oracle.letter_bytes + 32:
+            return ("strange", None)
+        if self.state == "new":
+            return ("early", None)
+        if self.state == "done":
+            return ("repeated", self.finish) if data == self.accepted else ("late", None)
+        public_key, letter, tag = data[1:1 + size], data[1 + size:-32], data[-32:]
+        shared = self.oracle.receive_report(self.secret_key, letter)[2]
+        if public_key != self.public_key or tag != tag_by_rule(shared, 2, public_key, letter):
+            self.state = "closed"
+            return ("refused", None)
+        self.state, self.accepted = "done", data
+        self.key = tag_by_rule(shared, 0, public_key, letter)
+        self.finish = [3, *letter, *tag_by_rule(shared, 3, public_key, letter)]
+        return ("accepted", self.finish)
+
+
+class AnswererModel:
+    """The answerer as [71], [72] and [74] tell it."""
+
+    def __init__(self, oracle, message):
+        self.oracle, self.message = oracle, message
+        self.state, self.key, self.hello, self.reply, self.shared = "new", None, None, None, None
+
+    def take(self, data):
+        if self.state == "closed":
+            return ("late", None)
+        if data[:1] == [1] and len(data) == 1 + self.oracle.public_bytes:
+            return self.take_hello(data)
+        if data[:1] == [3] and len(data) == 1 + self.oracle.letter_bytes + 32:
+            return self.take_finish(data)
+        return ("strange", None)
+
+    def take_hello(self, data):
+        if self.state != "new":
+            return ("repeated", self.reply) if data == self.hello else ("late", None)
+        self.public_key = data[1:]
+        if max(unpacked(12, self.public_key[:-32])) >= self.oracle.q:
+            self.state = "closed"
+            return ("refused", None)
+        self.shared, self.letter = self.oracle.send(self.public_key, self.message)
+        self.state, self.hello = "replied", data
+        tag = tag_by_rule(self.shared, 2, self.public_key, self.letter)
+        self.reply = [2, *self.public_key, *self.letter, *tag]
+        return ("accepted", self.reply)
+
+    def take_finish(self, data):
+        if self.state == "new":
+            return ("early", None)
+        good = data[1:-32] == self.letter and data[-32:] == tag_by_rule(self.shared, 3, self.public_key, self.letter)
+        if self.state == "done":
+            return ("repeated" if good else "late", None)
+        if not good:
+            self.state = "closed"
+            return ("refused", None)
+        self.state, self.key = "done", tag_by_rule(self.shared, 0, self.public_key, self.letter)
+        return ("accepted", None)
+
+
+class TalkModel:
+    """A talk as [76] and [77] tell it."""
+
+    def __init__(self, oracle, key_seed, fallback_seed, message):
+        self.ends = {"starter": StarterModel(oracle, key_seed, fallback_seed), "answerer": AnswererModel(oracle, message)}
+        self.sent, self.rows = [], []
+
+    def do(self, deed):
+        verdict, answer, sender = "nothing", None, None
+        if deed == ("start",):
+            verdict, answer, sender = "started", self.ends["starter"].start(), "starter"
+        elif deed[1] < len(self.sent) and (deed[0] == "give" or deed[2] < len(self.sent[deed[1]][1])):
+            by, data = self.sent[deed[1]]
+            sender = "answerer" if by == "starter" else "starter"
+            if deed[0] == "turn":
+                data = [*data[:deed[2]], deed[3], *data[deed[2] + 1:]]
+            verdict, answer = self.ends[sender].take(data)
+        number = None
+        if answer is not None:
+            number = len(self.sent)
+            self.sent.append((sender, answer))
+        self.rows.append((verdict, number, self.ends["starter"].state, self.ends["answerer"].state))
+        return self.rows[-1]
+
+    def journal(self):
+        return (list(self.rows), self.ends["starter"].key, self.ends["answerer"].key)

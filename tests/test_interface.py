@@ -210,6 +210,33 @@ FUNCTIONS = {
         "text_fault": "(text)",
         "text_to_key": "(text)",
     },
+    "ends": {
+        "hello_bytes": "(params)",
+        "reply_bytes": "(params)",
+        "finish_bytes": "(params)",
+        "tag_of": "(key, number, public_key, letter)",
+    },
+    "talks": {
+        "run_talk": "(params, key_seed, fallback_seed, message, deeds)",
+        "is_talk_journal": "(params, key_seed, fallback_seed, message, deeds, paper)",
+        "first_wrong_row": "(params, key_seed, fallback_seed, message, deeds, rows)",
+    },
+    "records": {
+        "record_key": "(session_key, side, number)",
+        "seal": "(session_key, side, number, body)",
+        "unseal": "(session_key, side, record)",
+        "chain_key": "(key, steps)",
+    },
+    "script": {
+        "parse_line": "(text)",
+        "line_of": "(command)",
+        "is_name": "(word)",
+    },
+    "book": {
+        "replay": "(lines)",
+        "audit": "(rows)",
+        "first_difference": "(first, second)",
+    },
 }
 
 CLASSES = {
@@ -243,6 +270,54 @@ CLASSES = {
         "ParameterSet": {
             "__init__": "(self, *, n, q, root, k, secret_width, noise_width, u_width, v_width)",
             "__eq__": "(self, other)",
+        },
+    },
+    "ends": {
+        "Starter": {
+            "__init__": "(self, params, key_seed, fallback_seed)",
+            "start": "(self)",
+            "take": "(self, data)",
+        },
+        "Answerer": {
+            "__init__": "(self, params, message)",
+            "take": "(self, data)",
+        },
+    },
+    "talks": {
+        "Talk": {
+            "__init__": "(self, params, key_seed, fallback_seed, message)",
+            "do": "(self, deed)",
+        },
+    },
+    "records": {
+        "Channel": {
+            "__init__": "(self, session_key, side)",
+            "seal_next": "(self, body)",
+            "take": "(self, record)",
+        },
+        "Mailbox": {
+            "__init__": "(self, params, key_seed, fallback_seed)",
+            "__len__": "(self)",
+            "__contains__": "(self, x)",
+            "__iter__": "(self)",
+            "take": "(self, letter)",
+            "key_of": "(self, number)",
+        },
+    },
+    "book": {
+        "Book": {
+            "__init__": "(self)",
+            "__len__": "(self)",
+            "__contains__": "(self, x)",
+            "__getitem__": "(self, at)",
+            "__iter__": "(self)",
+            "run": "(self, line)",
+            "run_all": "(self, *lines)",
+            "undo": "(self)",
+            "redo": "(self)",
+            "all_lines": "(self)",
+            "all_rows": "(self)",
+            "twin": "(self)",
         },
     },
 }

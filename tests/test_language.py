@@ -88,19 +88,42 @@ class LanguageTest(unittest.TestCase):
             self.assertIn(alias.name, defined)
 
     def test_names(self):
+        # Showing a value, as the examples of the README do, makes _ a builtin.
+        known = {word for word in dir(builtins) if word != "_"}
         for name, tree in self.trees.items():
             outside = [alias.name for node in tree.body if isinstance(node, ast.ImportFrom) for alias in node.names]
             classes = [node.name for node in tree.body if isinstance(node, ast.ClassDef)]
             bound = list(bound_names(tree))
             for word in bound:
-                self.assertFalse(hasattr(builtins, word), (name, word))
+                self.assertNotIn(word, known, name)
                 self.assertNotIn(word, NO_WORDS)
                 self.assertNotIn(word, outside)
             for word in classes:
                 self.assertEqual(bound.count(word), 1)
             for node in ast.walk(tree):
-                if isinstance(node, ast.Name) and hasattr(builtins, node.id):
+                if isinstance(node, ast.Name) and node.id in known:
                     self.assertIn(node.id, USED_BUILTINS, name)
+
+    def test_properties(self):
+        found, settable, stored, methods = set(), set(), set(), set()
+        for node in [node for tree in self.trees.values() for node in ast.walk(tree)]:
+            if isinstance(node, ast.ClassDef):
+                for part in [part for part in node.body if isinstance(part, ast.FunctionDef)]:
+                    signs = [ast.unparse(sign) for sign in part.decorator_list]
+                    names = found if signs == ["property"] else settable if signs else methods
+                    names.add(part.name)
+            elif isinstance(node, ast.Attribute) and isinstance(node.ctx, ast.Store):
+                stored.add(node.attr)
+        self.assertEqual(found & stored - settable, set())
+        self.assertEqual(found & methods, set())
+        self.assertTrue(settable <= found)
+
+    def test_words_in_texts(self):
+        for name, tree in self.trees.items():
+            for node in ast.walk(tree):
+                if isinstance(node, ast.Constant) and isinstance(node.value, str):
+                    for word in ("namedtuple", "dataclass", "typing", "abstractmethod", "Enum", "Meta", "(type)", "__"):
+                        self.assertNotIn(word, node.value, name)
 
     def test_caught_errors(self):
         defined = [node.name for node in self.trees["errors.py"].body if isinstance(node, ast.ClassDef)]

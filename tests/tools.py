@@ -136,9 +136,11 @@ def bent_papers(paper):
             for item in bent_papers(paper[place]):
                 yield kind([*paper[:place], item, *paper[place + 1:]])
         return
-    yield from (None, "", str(paper), [paper], (paper,), paper + 1, paper - 1, HUGE)
-    if paper in (0, 1):
-        yield bool(paper)
+    others = [None, "", str(paper), f"{paper}x", [paper], (paper,), HUGE, True, False, 0, 1]
+    if isinstance(paper, int):
+        others += [paper + 1, paper - 1]
+    # repr tells True from 1, which == does not.
+    yield from [other for other in others if repr(other) != repr(paper)]
 
 
 def product_by_sum(n, q, first, second):
