@@ -603,6 +603,23 @@ class TwinTest(BookTest):
         self.check_views(book, model)
         self.same(len(twin), 0)
 
+    def test_stacks_apart(self):
+        book, model = self.books(*LINES)
+        for _ in range(3):
+            self.same(book.undo(), model.undo()[1])
+        twin, other = book.twin(), copy.deepcopy(model)
+        for _ in range(4):
+            self.same(refusal(twin.redo), other.redo())
+        for _ in range(2):
+            self.same(refusal(book.undo), model.undo())
+        for _ in range(6):
+            self.same(refusal(book.redo), model.redo())
+            self.same(refusal(twin.undo), other.undo())
+        for _ in range(7):
+            self.same(refusal(twin.redo), other.redo())
+        self.check_views(book, model)
+        self.check_views(twin, other)
+
     def test_twins_of_twins(self):
         book, model = self.books(SET_LINE)
         twin = book.twin()

@@ -355,6 +355,24 @@ class NoisePaperTest(ProgramTest):
                     bent = bent_at(paper, *places, step=step)
                     self.check_paper(params, public_key, letter, [201], bent, False)
 
+    def test_each_equation_alone(self):
+        # One part is replaced and the noise made anew, so that only the equation of this part is broken.
+        for numbers in (SMALL, TWO_ROWS, (16, 97, 8, 4, 2, 3, 3, 5)):
+            params, oracle = pair_of(numbers)
+            case = (SEED, message_of(3, oracle.message_bytes), OTHER_SEED)
+            public_key, letter = oracle.keys(SEED)[0], letter_for(oracle, *case)
+            paper = oracle.noise_paper(*case)
+            other = oracle.noise_paper(OTHER_SEED, case[1], SEED)
+            for part in range(8):
+                parts = [*paper[:part], other[part], *paper[part + 1:]]
+                if part < 7:
+                    parts[7] = oracle.noise_sum(*parts[:7])
+                fits = parts[:7] == list(paper[:7]) and parts[7] == paper[7]
+                self.check_paper(params, public_key, letter, case[1], tuple(parts), fits)
+            for parts in ((*other[:2], *paper[2:7]), (*paper[:2], *other[2:7])):
+                noise = oracle.noise_sum(*parts)
+                self.check_paper(params, public_key, letter, case[1], (*parts, noise), False)
+
     def test_bent_arguments(self):
         params, oracle = pair_of(TWO_ROWS)
         case = (SEED, [201], OTHER_SEED)
